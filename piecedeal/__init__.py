@@ -1,0 +1,1 @@
+"""Piecedeal: pieces dealt among hands, round by round."""
