@@ -8,12 +8,15 @@ MOST_TIES = 8
 MOST_LETTERS = 4
 
 
+def is_whole(value):
+    """Whether the value is a whole number."""
+    # Python counts True and False as integers, the document does not.
+    return isinstance(value, int) and not isinstance(value, bool)
+
+
 def is_number(value, low, high):
     """Whether the value is a whole number from low to high."""
-    # Python counts True and False as integers, the document does not.
-    if not isinstance(value, int) or isinstance(value, bool):
-        return False
-    return low <= value <= high
+    return is_whole(value) and low <= value <= high
 
 
 def is_rising(values):
@@ -50,11 +53,11 @@ def is_deal(deal):
     return are_ties(hands, ties)
 
 
-def can_hold(pieces, held):
-    """Whether one hand can hold this, of so many pieces."""
-    if not isinstance(held, tuple):
+def is_choice(many, chosen):
+    """Whether it is a rising tuple of numbers, of so many from 0 on."""
+    if not isinstance(chosen, tuple):
         return False
-    return all(is_number(piece, 0, pieces - 1) for piece in held) and is_rising(held)
+    return all(is_number(number, 0, many - 1) for number in chosen) and is_rising(chosen)
 
 
 def is_holding(deal, holding):
@@ -62,7 +65,7 @@ def is_holding(deal, holding):
     hands, pieces, _ = deal
     if not isinstance(holding, tuple) or len(holding) != hands:
         return False
-    return all(can_hold(pieces, held) for held in holding)
+    return all(is_choice(pieces, held) for held in holding)
 
 
 def check_deal(deal):
@@ -83,17 +86,30 @@ def check(deal, holding):
     check_holding(deal, holding)
 
 
+def has_each(held, needed):
+    """Whether each of the needed ones is among those that are held."""
+    return all(number in held for number in needed)
+
+
+def has_all(deal, holding):
+    """Whether a holding that was looked at before is done."""
+    _, pieces, _ = deal
+    return all(len(held) == pieces for held in holding)
+
+
+def lies_within(one, other):
+    """Whether a holding is within another one, both of a deal that was looked at before."""
+    return all([has_each(theirs, ours) for ours, theirs in zip(one, other)])
+
+
 def is_done(deal, holding):
     """Whether all hands have all pieces."""
     check(deal, holding)
-    _, pieces, _ = deal
-    return all(len(held) == pieces for held in holding)
+    return has_all(deal, holding)
 
 
 def is_within(deal, one, other):
     """Whether each hand has all pieces of one holding in the other, too."""
     check(deal, one)
     check_holding(deal, other)
-    return all([
-        piece in theirs for ours, theirs in zip(one, other) for piece in ours
-    ])
+    return lies_within(one, other)

@@ -7,6 +7,7 @@ import unittest
 
 from piecedeal.errors import BadDeal, BadHolding, BadRound
 from piecedeal.rounds import lossy, played
+from tests.every import every_round
 from tests.wrong import DEAL, EIGHT_TIES, HOLDING, NO_HOLDINGS, NO_PLANS, NO_ROUNDS, RefusalCase
 
 # Two hands, the first of which sends the other one up to two of four pieces a round.
@@ -402,14 +403,6 @@ class EveryPlan(unittest.TestCase):
 
     DEAL = (3, 2, ((0, 1, 1), (1, 2, 2), (2, 0, 1)))
     HOLDING = ((0, 1), (), (0,))
-    LETTERS = tuple((tie, piece) for tie in range(3) for piece in range(2))
-
-    def rounds(self):
-        """All rounds of the right form that bear no more than they can."""
-        counts = range(len(self.LETTERS) + 1)
-        for letters in (row for k in counts for row in itertools.combinations(self.LETTERS, k)):
-            if all(sum(t == tie for t, _ in letters) <= self.DEAL[2][tie][2] for tie in range(3)):
-                yield letters
 
     def reckoned(self, plan, lost):
         """The holdings, and the first round with a piece that is not there, or None."""
@@ -426,7 +419,7 @@ class EveryPlan(unittest.TestCase):
 
     def test_played_and_lossy(self):
         lost = ((0, 0, 0), (0, 2, 0), (1, 1, 1))
-        for plan in itertools.product(list(self.rounds()), repeat=2):
+        for plan in itertools.product(every_round(self.DEAL), repeat=2):
             told, missing = self.reckoned(plan, ())
             self.assertEqual(lossless(self.DEAL, self.HOLDING, plan), told)
             self.assertEqual(

@@ -177,9 +177,12 @@ class RefusalCase(unittest.TestCase):
 
     @contextlib.contextmanager
     def refused(self, error, **values):
-        """What stands below is to be refused with this error alone and these values."""
+        """What stands below is to be refused with this error alone and these values.
+
+        The error stands in `exception` of what is given, once it was refused.
+        """
         with self.assertRaises(DealError) as caught:
-            yield
+            yield caught
         kinds = [kind for kind in REFUSALS if isinstance(caught.exception, kind)]
         self.assertEqual(kinds, [error])
         self.assertIsInstance(caught.exception, ValueError)
