@@ -17,6 +17,12 @@ def check_reach(deal, holding):
             raise NoDeal(("never", piece, tuple(there)))
 
 
+def done_of(deal):
+    """The holding of the deal that is done."""
+    hands, pieces, _ = deal
+    return (tuple(range(pieces)),) * hands
+
+
 def outermost(holdings):
     """Those of different holdings that are within no other one."""
     kept = []
@@ -27,11 +33,14 @@ def outermost(holdings):
     return kept
 
 
-def next_layer(deal, layer):
-    """The most that one round makes of the layer's holdings, each with what it was made of and by."""
+def next_layer(deal, layer, barred=()):
+    """The most that one round makes of the layer's holdings, each with what it was made of and by.
+
+    The round is one without the barred letters.
+    """
     made = {}
     for holding in layer:
-        for behind, letters in bests(deal, holding):
+        for behind, letters in bests(deal, holding, barred):
             made[behind] = (holding, letters)
     return {holding: made[holding] for holding in outermost(list(made))}
 
@@ -85,7 +94,6 @@ def least(deal, holding):
     """The fewest rounds behind which the holding is done, a plan of so many, and the reason."""
     check(deal, holding)
     check_reach(deal, holding)
-    hands, pieces, _ = deal
-    done = (tuple(range(pieces)),) * hands
+    done = done_of(deal)
     layers = layers_to(deal, holding, done)
     return (len(layers) - 1, plan_of(layers, done), reason_for(deal, holding, layers[:-1]))
